@@ -1,0 +1,1 @@
+"""Depot: bins, lots, promises, waves and walks of a store house."""
