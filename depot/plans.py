@@ -9,8 +9,9 @@ MOST_GAP = 20
 def is_plan(thing):
     if not isinstance(thing, tuple) or len(thing) != 3:
         return False
-    aisles, places, gap = thing
-    return is_whole(aisles, 1, MOST_AISLES) and is_whole(places, 1, MOST_PLACES) and is_whole(gap, 1, MOST_GAP)
+    if not is_whole(thing[0], 1, MOST_AISLES) or not is_whole(thing[1], 1, MOST_PLACES):
+        return False
+    return is_whole(thing[2], 1, MOST_GAP)
 
 
 def need_plan(plan):
