@@ -1,6 +1,6 @@
 import unittest
 
-from helper import odd_things, shown
+from helper import odd_things, shown, wrong_plans
 
 from depot.errors import NoBin, NoPlan
 from depot.plans import bin_at, bins_of, far, is_bin, is_spot, need_plan
@@ -12,21 +12,6 @@ SMALL_PLANS = [
 ] + [(5, 2, 1), (2, 9, 2), (6, 1, 20)]
 
 PLANS = [LEAST, GREATEST, (1, 99, 20), (26, 1, 20), (26, 99, 1), (1, 1, 20), (1, 99, 1), (26, 1, 1), (3, 5, 4)]
-
-
-def wrong_plans():
-    wrong = [
-        (0, 5, 4), (27, 5, 4), (-1, 5, 4), (28, 5, 4), (-3, 5, 4), (10 ** 30, 5, 4), (10 ** 5000, 5, 4),
-        (3, 0, 4), (3, 100, 4), (3, -1, 4), (3, 101, 4), (3, -5, 4), (3, 10 ** 30, 4), (3, 10 ** 5000, 4),
-        (3, 5, 0), (3, 5, 21), (3, 5, -1), (3, 5, 22), (3, 5, -4), (3, 5, 10 ** 30), (3, 5, 10 ** 5000),
-        (0, 0, 0), (27, 100, 21),
-        (True, 5, 4), (3, True, 4), (3, 5, True), (False, 5, 4), (3, False, 4), (3, 5, False), (True, True, True),
-        (3.0, 5, 4), (3, 5.0, 4), (3, 5, 4.0), ("3", 5, 4), (3, "5", 4), (3, 5, "4"), (None, 5, 4), (3, None, 4),
-        (3, 5, None), ([3], [5], [4]), ((3, 5, 4),),
-        (3,), (3, 5), (3, 5, 4, 1), (3, 5, 4, 4, 4), [3, 5, 4], [1, 1, 1], "354", "abc", b"354", 354, 3,
-        {3: 3, 5: 5, 4: 4}, {3, 5, 4}, range(1, 4),
-    ]
-    return wrong + odd_things()
 
 
 def spots_of(plan):
