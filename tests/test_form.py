@@ -1,6 +1,7 @@
 """The rules of LANGUAGE.md that can be seen in the package's files by themselves."""
 
 import ast
+import builtins
 import re
 import unittest
 from pathlib import Path
@@ -28,6 +29,15 @@ NOWHERE = re.compile(
 )
 
 NOT_USED = """register mro elements open input version_info with_traceback add_note format format_map""".split()
+
+KEYWORDS = {"sorted": ["key", "reverse"], "min": ["key", "default"], "max": ["key", "default"], "sum": ["start"],
+            "enumerate": ["start"], "zip": ["strict"]}
+
+WALKED = ["zip", "enumerate", "reversed", "range"]
+
+WALKERS = ["list", "tuple", "dict", "sorted", "sum", "any", "all", "enumerate", "zip", "min", "max"]
+
+VALUES_IN = ["count", "index", "title", "find", "get", "join", "lower", "upper", "split", "strip", "copy", "add"]
 
 FILE_NAMES_OUT = re.compile(r"test|tests|testing|test_.*|site|conftest|sitecustomize|usercustomize")
 
@@ -79,6 +89,42 @@ def own_attributes():
             names += [part.name for part in node.body if isinstance(part, ast.FunctionDef)]
         if isinstance(node, ast.Attribute) and isinstance(node.ctx, ast.Store):
             names.append(node.attr)
+    return names
+
+
+def methods():
+    """Pairs of a class and the name of a method of its own, over all files."""
+    classes = [node for path, node in nodes() if isinstance(node, ast.ClassDef)]
+    return [(node.name, part.name) for node in classes for part in node.body if isinstance(part, ast.FunctionDef)]
+
+
+def stored():
+    """The names of all values that objects are given."""
+    return {node.attr for path, node in nodes() if isinstance(node, ast.Attribute) and isinstance(node.ctx, ast.Store)}
+
+
+def names_of_values():
+    kinds = ("", 0, [], {}, set(), b"", (), True)
+    return {name for thing in kinds for name in dir(thing) if not name.startswith("__")}
+
+
+def parents(tree):
+    return {part: node for node in ast.walk(tree) for part in ast.iter_child_nodes(node)}
+
+
+def called(node):
+    """The name that is called, of a plain call or of a method's."""
+    if not isinstance(node, ast.Call):
+        return None
+    return node.func.attr if isinstance(node.func, ast.Attribute) else getattr(node.func, "id", None)
+
+
+def locals_of(tree):
+    names = [node.arg for node in ast.walk(tree) if isinstance(node, ast.arg)]
+    for function in ast.walk(tree):
+        if isinstance(function, (ast.FunctionDef, ast.Lambda, ast.ListComp)):
+            stores = [node for node in ast.walk(function) if isinstance(node, ast.Name)]
+            names += [node.id for node in stores if isinstance(node.ctx, ast.Store)]
     return names
 
 
@@ -179,6 +225,101 @@ class Form(unittest.TestCase):
                     if isinstance(sign, (ast.Is, ast.IsNot)):
                         if not isinstance(right, ast.Constant) or right.value not in (None, True, False):
                             self.bad("L20", path, node.lineno)
+
+    def test_statements_by_themselves_are_calls(self):
+        for path, tree in trees().items():
+            for node in ast.walk(tree):
+                if isinstance(node, ast.Expr) and node != tree.body[0] and not isinstance(node.value, ast.Call):
+                    self.bad("L6", path, node.lineno)
+
+    def test_classes(self):
+        for path, node in nodes():
+            if isinstance(node, ast.ClassDef):
+                if len(node.bases) > 1 or not all(isinstance(part, (ast.FunctionDef, ast.Pass)) for part in node.body):
+                    self.bad("L5", path, node.lineno)
+            if isinstance(node, ast.FunctionDef) and node.name == "__init__":
+                if any(isinstance(part, ast.Return) for part in ast.walk(node)):
+                    self.bad("L28", path, node.lineno)
+        self.assertEqual(len(methods()), len(set(methods())), "L18: a method stands twice")
+        names = {name for owner, name in methods()}
+        self.assertEqual(sorted(names & stored()), [], "L18: a method here, a value there")
+        free = names - set(METHODS) - {"add", "discard"} - set(TWO_UNDERSCORES)
+        self.assertEqual(sorted(free & names_of_values()), [], "L26")
+        self.assertEqual(sorted((stored() - set(VALUES_IN)) & (names_of_values() | {"args"})), [], "L26")
+
+    def test_locals_bear_no_other_names(self):
+        for path, tree in trees().items():
+            taken = [node.name for node in ast.walk(tree) if isinstance(node, ast.ClassDef)]
+            taken += [node.name for node in ast.walk(tree) if isinstance(node, ast.alias)]
+            for name in locals_of(tree):
+                if name in taken or hasattr(builtins, name):
+                    self.bad("L15, " + name, path, 0)
+
+    def test_no_annotations(self):
+        for path, node in nodes():
+            if isinstance(node, ast.arg) and node.annotation or isinstance(node, ast.FunctionDef) and node.returns:
+                self.bad("L21", path, node.lineno)
+
+    def test_keywords(self):
+        for path, node in nodes():
+            if isinstance(node, ast.Call):
+                name = called(node)
+                for keyword in node.keywords:
+                    if name in BUILT_IN + METHODS and keyword.arg not in KEYWORDS.get(name, []):
+                        self.bad("L22", path, node.lineno)
+
+    def test_python_s_own_are_called_and_not_kept(self):
+        for path, tree in trees().items():
+            above = parents(tree)
+            for node in ast.walk(tree):
+                if isinstance(node, ast.Name) and node.id in BUILT_IN and hasattr(builtins, node.id):
+                    over = above[node]
+                    kept = (ast.ClassDef, ast.ExceptHandler, ast.keyword, ast.Tuple)
+                    if not isinstance(over, (ast.Call,) + kept):
+                        self.bad("L22, " + node.id, path, node.lineno)
+                    if isinstance(over, ast.Call) and over.func != node and called(over) != "isinstance":
+                        self.bad("L22, " + node.id, path, node.lineno)
+
+    def test_walked_at_once(self):
+        for path, tree in trees().items():
+            above = parents(tree)
+            for node in ast.walk(tree):
+                method = isinstance(node, ast.Call) and isinstance(node.func, ast.Attribute)
+                if called(node) in (["items", "keys", "values"] if method else WALKED):
+                    over = above[node]
+                    walked = isinstance(over, (ast.For, ast.comprehension)) and over.iter == node
+                    if not walked and called(over) not in WALKERS + ["join"]:
+                        self.bad("L23", path, node.lineno)
+
+    def test_sets_are_not_kept(self):
+        for path, tree in trees().items():
+            above = parents(tree)
+            for node in ast.walk(tree):
+                if isinstance(node, ast.Set) or called(node) in ("set", "frozenset"):
+                    over = above[node]
+                    if not isinstance(over, (ast.Compare, ast.BinOp)) and called(over) not in ("sorted", "len"):
+                        self.bad("L24", path, node.lineno)
+
+    def test_what_a_file_s_top_holds_is_only_read(self):
+        for path, tree in trees().items():
+            above = parents(tree)
+            tops = [node.targets[0].id for node in tree.body if isinstance(node, ast.Assign)
+                    and isinstance(node.value, (ast.List, ast.Dict))]
+            for node in ast.walk(tree):
+                if isinstance(node, ast.Name) and node.id in tops and isinstance(node.ctx, ast.Load):
+                    over = above[node]
+                    read = isinstance(over, (ast.Compare, ast.For, ast.comprehension))
+                    read = read or isinstance(over, ast.Subscript) and isinstance(over.ctx, ast.Load)
+                    read = read or isinstance(over, ast.Attribute) and over.attr in ("get", "items", "keys", "values", "index")
+                    if not read and called(over) not in ("len", "list", "dict", "tuple", "sorted"):
+                        self.bad("L15", path, node.lineno)
+
+    def test_errors_of_python_s_own_are_not_taken_at_large(self):
+        for path, node in nodes():
+            if isinstance(node, ast.ExceptHandler):
+                names = [part.id for part in ast.walk(node.type) if isinstance(part, ast.Name)] if node.type else [""]
+                if any(name in ("", "Exception", "TypeError") for name in names):
+                    self.bad("L19", path, node.lineno)
 
 
 if __name__ == "__main__":
