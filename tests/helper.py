@@ -1,10 +1,13 @@
 """What several tests draw on."""
 
+import copy
 import re
 from decimal import Decimal
 from fractions import Fraction
 
-from depot.errors import NoAmount, NoBin, NoDay, NoLot, NoRoom, NoWare, TooLittle
+from depot.errors import (
+    Broken, NoAmount, NoBin, NoDay, NoLot, NoPromise, NoRoom, NoRule, NotToday, NoWare, StillOpen, TooLittle,
+)
 
 
 class Plain:
@@ -52,6 +55,9 @@ WRONG_LOTS = [-1, 1000, True, False, "0", None, [0]]
 WRONG_AMOUNTS = [0, -1, 10 ** 6 + 1, True, "1", None]
 WRONG_DAYS = [-1, 10000, True, "3", None]
 WRONG_WARES = ["", "Oats", "oats ", "abcdefghijklm", None, 7]
+WRONG_NUMBERS = [-1, 1000, True, False, "0", None, [0]]
+WRONG_RULES = ["", " due", "due ", "due  lot", "due due", "lot -lot", "Due", "ware", "--due", None, 7, ["due"]]
+RULES = ["due", "-due", "amount", "-amount lot", "came -aisle", "place", "-place -lot", "lot due", "-came amount due"]
 
 
 def wrong_bins(plan):
@@ -72,6 +78,13 @@ def ladder(slots):
             for number, thing in enumerate([right] + wrong)
         ]
     return [(things, due) for things, due in ways if due]
+
+
+def can_keep(stock, asks):
+    """Whether asks can be kept, grain by grain: the later a day, the later due a grain it is given."""
+    dues = sorted((due for due, amount in stock for grain in range(amount)), reverse=True)
+    days = sorted((day for day, amount in asks for grain in range(amount)), reverse=True)
+    return len(days) <= len(dues) and all(day <= due for day, due in zip(days, dues))
 
 
 class Reckoning:
@@ -109,8 +122,17 @@ class Reckoning:
             self.left(lot) for lot, (other, due, came) in enumerate(self.lots) if other == ware and due >= day
         )
 
+    def pieces(self, ware, day):
+        return [
+            (spot, lot, amount) + self.lots[lot][1:] for (spot, lot), amount in sorted(self.lies.items())
+            if amount and self.lots[lot][0] == ware and self.lots[lot][1] >= day
+        ]
+
     def whole(self, thing, least, most):
         return type(thing) is int and least <= thing <= most
+
+    def ware(self, thing):
+        return None if type(thing) is str and re.fullmatch("[a-z]{1,12}", thing) else NoWare
 
     def lot(self, thing):
         return None if self.whole(thing, 0, len(self.lots) - 1) else NoLot
@@ -130,11 +152,8 @@ class Reckoning:
         return None if self.filled(spot) + more <= self.room else NoRoom
 
     def come_refusal(self, ware, due, spot, amount):
-        if type(ware) is not str or re.fullmatch("[a-z]{1,12}", ware) is None:
-            return NoWare
-        if not self.whole(due, 0, 9999):
-            return NoDay
-        refusal = self.bin(spot) or self.amount(amount)
+        refusal = self.ware(ware) or (None if self.whole(due, 0, 9999) else NoDay)
+        refusal = refusal or self.bin(spot) or self.amount(amount)
         if refusal:
             return refusal
         if due < self.day:
@@ -196,6 +215,157 @@ class Reckoning:
             return False
         getattr(self, deed)(*things)
         return self.rows[-1] == row
+
+
+class StoreReckoning(Reckoning):
+    """A plain reckoning of a store: its promises are looked at grain by grain, as the document tells them."""
+
+    def __init__(self, plan, room):
+        super().__init__(plan, room)
+        self.promises = {}
+        self.numbers = 0
+
+    def asks(self, ware):
+        return [(day, amount) for other, amount, day in self.promises.values() if other == ware]
+
+    def stock(self, ware, spot=None, lot=None, fewer=0):
+        """What lies of a ware and is good today; of one lot in one bin so many fewer."""
+        return [
+            (due, amount - fewer if (where, other) == (spot, lot) else amount)
+            for where, other, amount, due, came in self.pieces(ware, self.day)
+        ]
+
+    def all_kept(self):
+        wares = {ware for ware, amount, day in self.promises.values()}
+        return all(can_keep(self.stock(ware), self.asks(ware)) for ware in wares)
+
+    def broken(self, lot, spot, fewer):
+        ware = self.lots[lot][0]
+        return None if can_keep(self.stock(ware, spot, lot, fewer), self.asks(ware)) else Broken
+
+    def today_ones(self):
+        return [number for number in sorted(self.promises) if self.promises[number][2] == self.day]
+
+    def go_refusal(self, lot, spot, amount):
+        return super().go_refusal(lot, spot, amount) or self.broken(lot, spot, amount)
+
+    def count_refusal(self, lot, spot, amount):
+        refusal = super().count_refusal(lot, spot, amount)
+        return refusal or self.broken(lot, spot, self.there(lot, spot) - amount)
+
+    def next_day_refusal(self):
+        return StillOpen if self.today_ones() else super().next_day_refusal()
+
+    def coming(self, day):
+        return None if self.whole(day, self.day, 9999) else NoDay
+
+    def promise_refusal(self, ware, amount, day):
+        refusal = self.ware(ware) or self.amount(amount) or self.coming(day)
+        return refusal or (None if can_keep(self.stock(ware), self.asks(ware) + [(day, amount)]) else Broken)
+
+    def promise(self, ware, amount, day):
+        self.promises[self.numbers] = (ware, amount, day)
+        self.numbers += 1
+        return self.numbers - 1
+
+    def number(self, thing):
+        return None if type(thing) is int and thing in self.promises else NoPromise
+
+    def drop_refusal(self, number):
+        return self.number(number)
+
+    def drop(self, number):
+        del self.promises[number]
+
+    def rule(self, text):
+        return None if type(text) is str and text in RULES else NoRule
+
+    def turn(self, ware, text):
+        def key(piece):
+            names = {"due": piece[3], "came": piece[4], "amount": piece[2], "aisle": piece[0][0], "place": piece[0][1]}
+            names["lot"] = piece[1]
+            return [-names[word[1:]] if word[0] == "-" else names[word] for word in text.split()], piece[0], piece[1]
+
+        return sorted(self.pieces(ware, self.day), key=key)
+
+    def keep_refusal(self, number, text):
+        refusal = self.number(number) or self.rule(text)
+        return refusal or (None if self.promises[number][2] == self.day else NotToday)
+
+    def keep(self, number, text):
+        """Of each piece in turn the most grains, tried one by one, that leave all others and the want to be kept."""
+        ware, wanted, day = self.promises.pop(number)
+        told = []
+        for spot, lot, lies, due, came in self.turn(ware, text):
+            grains = min(lies, wanted)
+            while not can_keep(self.stock(ware, spot, lot, grains), self.asks(ware) + [(day, wanted - grains)]):
+                grains -= 1
+            if grains:
+                self.go(lot, spot, grains)
+                told.append((spot, lot, grains))
+                wanted -= grains
+        assert wanted == 0
+        return told
+
+    def wave_refusal(self, text):
+        return self.rule(text)
+
+    def wave(self, text):
+        return [(number,) + row for number in self.today_ones() for row in self.keep(number, text)]
+
+    def planned_refusal(self, text):
+        return self.rule(text)
+
+    def planned(self, text):
+        return copy.deepcopy(self).wave(text)
+
+    def free_refusal(self, ware, day):
+        return self.ware(ware) or self.coming(day)
+
+    def free(self, ware, day):
+        more = 0
+        while can_keep(self.stock(ware), self.asks(ware) + [(day, more + 1)]):
+            more += 1
+        return more
+
+    def open_ones(self):
+        return [(number,) + self.promises[number] for number in sorted(self.promises)]
+
+
+STORE_DEEDS = ["come"] * 6 + ["promise"] * 5 + ["keep"] * 3 + """go go move move count count count next_day drop wave
+planned free""".split()
+
+
+def some_store_deed(reckoning, chance, wrong):
+    """As some_deed, with promises, mostly of what lies and of what can be promised."""
+    plan, deed = reckoning.plan, chance.choice(STORE_DEEDS)
+    ware, day = chance.choice(["oats", "oats", "rye"]), reckoning.day + chance.choice([-1, 0, 0, 0, 1, 1, 2, 3, 4])
+    spots = [(aisle, place) for aisle in range(plan[0]) for place in range(1, plan[1] + 1)]
+    stacks = sorted(stack for stack, amount in reckoning.lies.items() if amount)
+    spot, lot = chance.choice(stacks or [(spots[0], 0)])
+    one, other = chance.choice([spot, spot, spot, chance.choice(spots)]), chance.choice(spots)
+    lies, grains = reckoning.there(lot, one), chance.randrange(1, reckoning.room + 1)
+    amount = chance.choice([1, max(lies, 1), chance.randrange(1, lies + 2), grains])
+    most = reckoning.free(ware, day) if day >= reckoning.day else 3
+    wanted = max(1, chance.choice([1, 2, most, most // 2, most // 3, most + 1]))
+    number = chance.choice(list(reckoning.promises) or [0])
+    if chance.randrange(6) == 0:
+        number = chance.randrange(reckoning.numbers + 2)
+    text = chance.choice(RULES)
+    things, slots = {
+        "come": ([ware, day, other, grains], "wdba"), "go": ([lot, one, amount], "lba"),
+        "move": ([lot, one, other, amount], "lbba"), "count": ([lot, one, amount - chance.randrange(2)], "lba"),
+        "next_day": ([], ""), "promise": ([ware, wanted, day], "wad"), "free": ([ware, day], "wd"),
+        "drop": ([number], "n"), "keep": ([number, text], "nr"), "wave": ([text], "r"), "planned": ([text], "r"),
+    }[deed]
+    if slots and chance.randrange(wrong) == 0:
+        where = chance.randrange(len(slots))
+        wrongs = {
+            "w": WRONG_WARES, "d": WRONG_DAYS, "b": wrong_bins(plan), "l": WRONG_LOTS, "a": WRONG_AMOUNTS,
+            "n": WRONG_NUMBERS, "r": WRONG_RULES,
+        }
+        things[where] = chance.choice(wrongs[slots[where]])
+    return deed, things
 
 
 def some_deed(reckoning, chance, wrong):
