@@ -30,8 +30,14 @@ class House:
         self.done.append(("come", lot, ware, due, spot, amount))
         return lot
 
-    def go(self, lot, spot, amount):
+    def need_go(self, lot, spot, amount):
         need_lot(lot, len(self.known))
+        need_bin(self.layout, spot)
+        need_amount(amount)
+        self.shelves.need_there(lot, spot, amount)
+
+    def go(self, lot, spot, amount):
+        self.need_go(lot, spot, amount)
         self.shelves.take(lot, spot, amount)
         self.done.append(("go", lot, spot, amount))
 
@@ -40,11 +46,15 @@ class House:
         self.shelves.shift(lot, one, other, amount)
         self.done.append(("move", lot, one, other, amount))
 
-    def count(self, lot, spot, amount):
+    def need_count(self, lot, spot, amount):
         need_lot(lot, len(self.known))
         need_bin(self.layout, spot)
         if not is_whole(amount, 0, MOST_AMOUNT):
             raise NoAmount("a whole number from 0 to 10 ** 6 is wanted")
+        self.shelves.need_room(spot, amount - self.shelves.amount(lot, spot))
+
+    def count(self, lot, spot, amount):
+        self.need_count(lot, spot, amount)
         before = self.shelves.amount(lot, spot)
         if amount > before:
             self.shelves.put(lot, spot, amount - before)
