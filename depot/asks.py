@@ -25,7 +25,7 @@ def free(stock, asks, day):
     return min([rest(stock, asks, day)] + [rest(stock, asks, asked) for asked, amount in asks if asked <= day])
 
 
-# Lessens left by what it gives.
+# What it gives is taken off left, so that no later ask has it again.
 def given(stock, left, day, wanted):
     pairs = []
     for place, pair in enumerate(stock):

@@ -127,7 +127,7 @@ class Store:
         if not keepable(stock, asks_of(self.promises, ware)):
             raise Broken("a promise could not be kept behind that")
 
-    # Rows (number, bin, lot, amount) by which these promises would go out, one behind the other.
+    # Reckoned on copies: planned tells what a wave would fetch without doing it.
     def rows_for(self, numbers, rule):
         still = dict(self.promises)
         lies = {}

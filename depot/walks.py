@@ -6,7 +6,7 @@ from depot.plans import far, need_plan
 DOOR = (0, 0)
 
 
-# One list of places for each aisle from 0 up to the last one that has a bin.
+# Aisles without a bin have their own empty list, up to the last one with a bin: the walk goes by them, too.
 def places_by_aisle(bins):
     last = max([aisle for aisle, place in bins], default=-1)
     aisles = [[] for aisle in range(last + 1)]

@@ -416,8 +416,9 @@ class Broke(Case):
         store.come("oats", 5, (0, 1), 10)
         store.promise("oats", 10, 5)
         right = [("come", 0, "oats", 5, (0, 1), 10)]
-        for call, things in [(store.go, [0, (0, 1), 1]), (store.count, [0, (0, 1), 0]), (store.promise, ["oats", 1, 0])]:
-            self.refused(Broken, store, call, things)
+        self.refused(Broken, store, store.go, [0, (0, 1), 1])
+        self.refused(Broken, store, store.count, [0, (0, 1), 0])
+        self.refused(Broken, store, store.promise, ["oats", 1, 0])
         self.assertEqual(store.rows(), right)
 
 
@@ -511,7 +512,8 @@ class Reckoned(Case):
             ("come", (NoWare, NoDay, NoBin, NoAmount, NoRoom)), ("go", (NoLot, NoBin, NoAmount, TooLittle, Broken)),
             ("move", (NoLot, NoBin, NoAmount, TooLittle, NoRoom)), ("drop", (NoPromise,)), ("planned", (NoRule,)),
             ("count", (NoLot, NoBin, NoAmount, NoRoom, Broken)), ("next_day", (StillOpen,)), ("wave", (NoRule,)),
-            ("promise", (NoWare, NoAmount, NoDay, Broken)), ("keep", (NoPromise, NoRule, NotToday)), ("free", (NoWare, NoDay)),
+            ("promise", (NoWare, NoAmount, NoDay, Broken)), ("keep", (NoPromise, NoRule, NotToday)),
+            ("free", (NoWare, NoDay)),
         ]:
             for refusal in refusals:
                 self.assertGreater(met.get((deed, refusal), 0), 5, (deed, refusal))
