@@ -1,12 +1,15 @@
 """What several tests draw on."""
 
 import copy
+import functools
+import itertools
 import re
 from decimal import Decimal
 from fractions import Fraction
 
 from depot.errors import (
-    Broken, NoAmount, NoBin, NoDay, NoLot, NoPromise, NoRoom, NoRule, NotToday, NoWare, StillOpen, TooLittle,
+    Broken, NoAmount, NoBin, NoDay, NoLot, NoName, NoPlan, NoPromise, NoRoom, NoRow, NoRule, NotToday, NoWare,
+    StillOpen, TooLittle,
 )
 
 
@@ -57,6 +60,7 @@ WRONG_DAYS = [-1, 10000, True, "3", None]
 WRONG_WARES = ["", "Oats", "oats ", "abcdefghijklm", None, 7]
 WRONG_NUMBERS = [-1, 1000, True, False, "0", None, [0]]
 WRONG_RULES = ["", " due", "due ", "due  lot", "due due", "lot -lot", "Due", "ware", "--due", None, 7, ["due"]]
+RULE = "-?(due|came|amount|aisle|place|lot)( -?(due|came|amount|aisle|place|lot))*"
 RULES = ["due", "-due", "amount", "-amount lot", "came -aisle", "place", "-place -lot", "lot due", "-came amount due"]
 
 
@@ -85,6 +89,71 @@ def can_keep(stock, asks):
     dues = sorted((due for due, amount in stock for grain in range(amount)), reverse=True)
     days = sorted((day for day, amount in asks for grain in range(amount)), reverse=True)
     return len(days) <= len(dues) and all(day <= due for day, due in zip(days, dues))
+
+
+def step_by_step(plan, spots):
+    """Every spot that a walk comes to, one behind the other; each end of an aisle that it goes by among them."""
+    path = [spots[0]]
+    for one, other in zip(spots, spots[1:]):
+        (aisle, place), (goal, last) = one, other
+        while (aisle, place) != (goal, last):
+            if aisle == goal:
+                place += 1 if last > place else -1
+            else:
+                aisle += 1 if goal > aisle else -1
+            path.append((aisle, place))
+    return path
+
+
+def plain_length(plan, spots):
+    path = step_by_step(plan, spots)
+    return sum(1 if one[0] == other[0] else plan[2] for one, other in zip(path, path[1:]))
+
+
+def plain_stops(plan, spots, bins):
+    first = []
+    for spot in step_by_step(plan, spots):
+        if spot in bins and spot not in first:
+            first.append(spot)
+    return first
+
+
+def ways(plan, bins):
+    """All walks by the rule, each choice in each aisle tried one by one."""
+    last = max((aisle for aisle, place in bins), default=None)
+    if last is None:
+        return [[(0, 0)]]
+    found = []
+    for through in itertools.product([False, True], repeat=last + 1):
+        if sum(through) % 2:
+            continue
+        end, back, spots = 0, plan[1] + 1, []
+        for aisle in range(last + 1):
+            places = [place for other, place in bins if other == aisle]
+            spots.append((aisle, end))
+            if through[aisle]:
+                end = back - end
+                spots.append((aisle, end))
+            elif places:
+                spots += [(aisle, max(places) if end == 0 else min(places)), (aisle, end)]
+        found.append(spots + ([(0, 0)] if last else []))
+    return found
+
+
+def least(plan, bins):
+    """The least length of a walk by the rule, for plans of which not all ways can be tried."""
+    last, back = max(aisle for aisle, place in bins), plan[1] + 1
+    places = {aisle: [place for other, place in bins if other == aisle] for aisle in range(last + 1)}
+
+    @functools.lru_cache(None)
+    def onward(aisle, at_front):
+        if aisle > last:
+            return plan[2] * last if at_front else 10 ** 9
+        reach = max([place if at_front else back - place for place in places[aisle]], default=0)
+        step = plan[2] if aisle < last else 0
+        return step + min(2 * reach + onward(aisle + 1, at_front), back + onward(aisle + 1, not at_front))
+
+    return onward(0, True)
 
 
 class Reckoning:
@@ -278,7 +347,10 @@ class StoreReckoning(Reckoning):
         del self.promises[number]
 
     def rule(self, text):
-        return None if type(text) is str and text in RULES else NoRule
+        if type(text) is not str or not re.fullmatch(RULE, text):
+            return NoRule
+        names = text.replace("-", "").split(" ")
+        return None if len(names) == len(set(names)) else NoRule
 
     def turn(self, ware, text):
         def key(piece):
@@ -330,6 +402,97 @@ class StoreReckoning(Reckoning):
 
     def open_ones(self):
         return [(number,) + self.promises[number] for number in sorted(self.promises)]
+
+
+# Refusals by their words, as the desk tells them.
+REFUSALS = {
+    "plan": NoPlan, "name": NoName, "ware": NoWare, "day": NoDay, "bin": NoBin, "lot": NoLot, "amount": NoAmount,
+    "room": NoRoom, "little": TooLittle, "rule": NoRule, "promise": NoPromise, "broken": Broken, "today": NotToday,
+    "open": StillOpen, "row": NoRow,
+}
+
+# What stands behind each word of a row: w a ware, n a number, b a bin's name, r a rule.
+FORMS = {
+    "come": "wnbn", "go": "nbn", "move": "nbbn", "count": "nbn", "day": "", "promise": "wnn", "drop": "n", "free": "wn",
+    "keep": "nr", "wave": "r", "walk": "r", "in": "b", "of": "w",
+}
+
+SLOTS = {"w": "([^ ]+)", "n": "([0-9]{1,7})", "b": "([a-z](?!00)[0-9]{2})", "r": "([^ ]+(?: +[^ ]+)*)"}
+
+
+def name_of(spot):
+    return "%s%02d" % ("ABCDEFGHIJKLMNOPQRSTUVWXYZ"[spot[0]], spot[1])
+
+
+def told_by(text):
+    """The word and the things that a row of text tells, by one pattern for each word; None of what is no row."""
+    for word, form in FORMS.items():
+        match = re.fullmatch(" *" + " +".join([word] + [SLOTS[slot] for slot in form]) + " *", text.lower())
+        if match:
+            return word, [thing_of(slot, part) for slot, part in zip(form, match.groups())]
+    return None
+
+
+def thing_of(slot, part):
+    if slot == "n":
+        return int(part)
+    if slot == "b":
+        return ord(part[0]) - ord("a"), int(part[1:])
+    return re.sub(" +", " ", part)
+
+
+def rows_as_text(rows):
+    things = [[name_of(thing) if type(thing) is tuple else str(thing) for thing in row] for row in rows]
+    return "; ".join(" ".join(row) for row in things) or "none"
+
+
+class DeskReckoning(StoreReckoning):
+    """A plain reckoning of a desk: what it must answer to a row of text."""
+
+    METHODS = {"day": "next_day", "walk": "walked", "in": "inside", "of": "grains"}
+
+    def right(self, text):
+        """All answers of which any is right (several of a walk alone); the row is done."""
+        if type(text) is str and re.match(r" *(#|\Z)", text):
+            return [""]
+        told = told_by(text) if type(text) is str else None
+        if not told:
+            return ["no row"]
+        deed, things = self.METHODS.get(told[0], told[0]), told[1]
+        refusal = self.refusal(deed, things)
+        if refusal:
+            return ["no " + word for word in REFUSALS if REFUSALS[word] is refusal]
+        answer = getattr(self, deed)(*things)
+        if deed == "walked":
+            return answer
+        if deed in ("keep", "wave", "inside"):
+            return [rows_as_text(answer)]
+        return ["ok" if answer is None else str(answer)]
+
+    def walked_refusal(self, text):
+        return self.rule(text)
+
+    def walked(self, text):
+        """One answer for each walk by the rule that is as short as any."""
+        bins = [row[1] for row in self.planned(text)]
+        every = ways(self.plan, bins)
+        shortest = min(plain_length(self.plan, way) for way in every)
+        return [
+            " ".join([str(shortest)] + [name_of(spot) for spot in plain_stops(self.plan, way, bins)])
+            for way in every if plain_length(self.plan, way) == shortest
+        ]
+
+    def inside_refusal(self, spot):
+        return self.bin(spot)
+
+    def inside(self, spot):
+        return sorted((lot, amount) for (where, lot), amount in self.lies.items() if where == spot and amount)
+
+    def grains_refusal(self, ware):
+        return self.ware(ware)
+
+    def grains(self, ware):
+        return self.total(ware, 0)
 
 
 STORE_DEEDS = ["come"] * 6 + ["promise"] * 5 + ["keep"] * 3 + """go go move move count count count next_day drop wave

@@ -314,6 +314,41 @@ class Form(unittest.TestCase):
                     if not read and called(over) not in ("len", "list", "dict", "tuple", "sorted"):
                         self.bad("L15", path, node.lineno)
 
+    def test_classes_are_called_and_not_kept(self):
+        names = {node.name for path, node in nodes() if isinstance(node, ast.ClassDef)}
+        for path, tree in trees().items():
+            above = parents(tree)
+            for node in ast.walk(tree):
+                if isinstance(node, ast.Name) and node.id in names:
+                    over = above[node]
+                    over = above[over] if isinstance(over, ast.Tuple) else over
+                    right = isinstance(over, (ast.ClassDef, ast.ExceptHandler, ast.Raise))
+                    right = right or isinstance(over, ast.Call) and (over.func == node or called(over) == "isinstance")
+                    right = right or isinstance(over, ast.Attribute) and over.attr == "__init__"
+                    if not right:
+                        self.bad("L18, " + node.id, path, node.lineno)
+
+    def test_what_a_file_s_top_holds_is_plain(self):
+        for path, tree in trees().items():
+            functions = [node.name for node in tree.body if isinstance(node, ast.FunctionDef)]
+            for node in [node.value for node in tree.body if isinstance(node, ast.Assign)]:
+                for part in ast.walk(node):
+                    plain = isinstance(part, (ast.Constant, ast.Tuple, ast.List, ast.Dict, ast.Load))
+                    if not plain and not (isinstance(part, ast.Name) and part.id in functions):
+                        self.bad("L3", path, node.lineno)
+                    if part != node and isinstance(part, (ast.List, ast.Dict)):
+                        self.bad("L15", path, node.lineno)
+
+    def test_numbers_and_texts(self):
+        for path, node in nodes():
+            if isinstance(node, ast.BinOp) and isinstance(node.op, ast.Pow):
+                if not isinstance(node.right, ast.Constant) or not 0 <= node.right.value <= 64:
+                    self.bad("L27", path, node.lineno)
+            if isinstance(node, ast.Constant) and isinstance(node.value, str) and "%" in node.value:
+                self.bad("L27", path, node.lineno)
+            if isinstance(node, ast.FormattedValue) and not isinstance(node.value, ast.Name):
+                self.bad("L7", path, node.lineno)
+
     def test_errors_of_python_s_own_are_not_taken_at_large(self):
         for path, node in nodes():
             if isinstance(node, ast.ExceptHandler):

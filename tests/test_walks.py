@@ -1,80 +1,15 @@
-import functools
-import itertools
 import random
 import unittest
 
-from helper import odd_things, shown, wrong_bins, wrong_plans
+from helper import (
+    least, odd_things, plain_length, plain_stops, shown, step_by_step, ways, wrong_bins, wrong_plans,
+)
 
 from depot.errors import NoBin, NoPlan
 from depot.plans import bins_of
 from depot.walks import length, stops, walk
 
 PLAN = (4, 5, 3)
-
-
-def step_by_step(plan, spots):
-    """Every spot that a walk comes to, one behind the other; each end of an aisle that it goes by among them."""
-    path = [spots[0]]
-    for one, other in zip(spots, spots[1:]):
-        (aisle, place), (goal, last) = one, other
-        while (aisle, place) != (goal, last):
-            if aisle == goal:
-                place += 1 if last > place else -1
-            else:
-                aisle += 1 if goal > aisle else -1
-            path.append((aisle, place))
-    return path
-
-
-def plain_length(plan, spots):
-    path = step_by_step(plan, spots)
-    return sum(1 if one[0] == other[0] else plan[2] for one, other in zip(path, path[1:]))
-
-
-def plain_stops(plan, spots, bins):
-    first = []
-    for spot in step_by_step(plan, spots):
-        if spot in bins and spot not in first:
-            first.append(spot)
-    return first
-
-
-def ways(plan, bins):
-    """All walks by the rule, each choice in each aisle tried one by one."""
-    last = max((aisle for aisle, place in bins), default=None)
-    if last is None:
-        return [[(0, 0)]]
-    found = []
-    for through in itertools.product([False, True], repeat=last + 1):
-        if sum(through) % 2:
-            continue
-        end, back, spots = 0, plan[1] + 1, []
-        for aisle in range(last + 1):
-            places = [place for other, place in bins if other == aisle]
-            spots.append((aisle, end))
-            if through[aisle]:
-                end = back - end
-                spots.append((aisle, end))
-            elif places:
-                spots += [(aisle, max(places) if end == 0 else min(places)), (aisle, end)]
-        found.append(spots + ([(0, 0)] if last else []))
-    return found
-
-
-def least(plan, bins):
-    """The least length of a walk by the rule, for plans of which not all ways can be tried."""
-    last, back = max(aisle for aisle, place in bins), plan[1] + 1
-    places = {aisle: [place for other, place in bins if other == aisle] for aisle in range(last + 1)}
-
-    @functools.lru_cache(None)
-    def onward(aisle, at_front):
-        if aisle > last:
-            return plan[2] * last if at_front else 10 ** 9
-        reach = max([place if at_front else back - place for place in places[aisle]], default=0)
-        step = plan[2] if aisle < last else 0
-        return step + min(2 * reach + onward(aisle + 1, at_front), back + onward(aisle + 1, not at_front))
-
-    return onward(0, True)
 
 
 def some_walk(chance, plan):
